@@ -4,6 +4,7 @@ package catalog
 import (
 	"slices"
 
+	"lockstep/asks"
 	"lockstep/versions"
 )
 
@@ -27,11 +28,8 @@ type Entry struct {
 
 // Need is a line `needs` of an entry.
 type Need struct {
-	Package  string
-	Demand   versions.Demand
+	asks.Ask
 	Optional bool
-	Bare     bool
-	Features []string
 }
 
 // Feature is a line `feature` of an entry.
@@ -57,18 +55,24 @@ type Item struct {
 	Feature string
 }
 
-// Find gives the package of that name, or nil.
-func (x *Index) Find(name string) *Package {
-	k := slices.IndexFunc(x.Packages, func(p *Package) bool { return p.Name == name })
+// Choice holds of each package of an index, in its order, the entry that is chosen, or nil.
+type Choice []*Entry
+
+// Place tells which of the packages has that name; -1, if none has.
+func (x *Index) Place(name string) int {
+	return slices.IndexFunc(x.Packages, func(p *Package) bool { return p.Name == name })
+}
+
+// Has tells whether there is a package of that name.
+func (x *Index) Has(name string) bool { return x.Place(name) >= 0 }
+
+// Find gives the entry of that version, or nil.
+func (p *Package) Find(v versions.Version) *Entry {
+	k := slices.IndexFunc(p.Entries, func(e *Entry) bool { return e.Version == v })
 	if k < 0 {
 		return nil
 	}
-	return x.Packages[k]
-}
-
-// Has tells whether the package has that version.
-func (p *Package) Has(v versions.Version) bool {
-	return slices.ContainsFunc(p.Entries, func(e *Entry) bool { return e.Version == v })
+	return p.Entries[k]
 }
 
 // Need gives the entry's line `needs` of that package, if there is one.

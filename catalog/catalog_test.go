@@ -6,6 +6,7 @@ import (
 	"testing"
 
 	"lockstep/api"
+	"lockstep/asks"
 	"lockstep/fault"
 	"lockstep/versions"
 )
@@ -45,8 +46,8 @@ func TestReadKeepsAllThatIsSaid(t *testing.T) {
 			{
 				Version: versions.Version{1, 0, 0},
 				Needs: []Need{
-					{Package: "b", Demand: demand(t, "^1.2.0"), Optional: true, Bare: true, Features: []string{"x", "y", "x"}},
-					{Package: "a", Demand: demand(t, "*")},
+					{Ask: asks.Ask{Package: "b", Demand: demand(t, "^1.2.0"), Bare: true, Features: []string{"x", "y", "x"}}, Optional: true},
+					{Ask: asks.Ask{Package: "a", Demand: demand(t, "*")}},
 				},
 				Features: []Feature{
 					{Name: "f", Items: []Item{{Own, "", "g"}, {Dep, "b", ""}, {With, "b", "x"}, {WithMet, "b", "y"}}},
@@ -56,8 +57,8 @@ func TestReadKeepsAllThatIsSaid(t *testing.T) {
 			{
 				Version: versions.Version{0, 9, 12},
 				Needs: []Need{
-					{Package: "b", Demand: demand(t, "=1.4.0"), Bare: true},
-					{Package: "a", Demand: demand(t, "*"), Optional: true, Features: []string{"f"}},
+					{Ask: asks.Ask{Package: "b", Demand: demand(t, "=1.4.0"), Bare: true}},
+					{Ask: asks.Ask{Package: "a", Demand: demand(t, "*"), Features: []string{"f"}}, Optional: true},
 				},
 			},
 		}},
@@ -80,7 +81,7 @@ func TestReadOfNothing(t *testing.T) {
 // Keywords are words like others where a NAME stands.
 func TestKeywordsAsNames(t *testing.T) {
 	x := read(t, "package optional 1.0.0\nneeds optional * optional\nneeds bare * bare +bare\nfeature dep dep dep:optional bare/dep bare?/needs\npackage bare 1.0.0\n")
-	e := x.Find("optional").Entries[0]
+	e := x.Packages[x.Place("optional")].Entries[0]
 	if n, ok := e.Need("bare"); !ok || n.Optional || !n.Bare {
 		t.Errorf("needs bare: %+v, %v", n, ok)
 	}
@@ -89,17 +90,19 @@ func TestKeywordsAsNames(t *testing.T) {
 	}
 }
 
-func TestFindAndHas(t *testing.T) {
-	x := read(t, "package a 1.0.0\npackage b 2.0.0\nfeature f\n")
-	if x.Find("c") != nil || x.Find("") != nil {
-		t.Error("found a package that is not there")
+func TestPlaceAndFind(t *testing.T) {
+	x := read(t, "package b 1.0.0\npackage a 2.0.0\nfeature f\npackage b 3.0.0\n")
+	for name, place := range map[string]int{"b": 0, "a": 1, "c": -1, "": -1} {
+		if got := x.Place(name); got != place || x.Has(name) != (place >= 0) {
+			t.Errorf("%q: %d, %v", name, got, x.Has(name))
+		}
 	}
-	b := x.Find("b")
-	if b == nil || b.Name != "b" {
-		t.Fatalf("Find(b) = %v", b)
+	b := x.Packages[0]
+	if e := b.Find(versions.Version{3, 0, 0}); e == nil || e != b.Entries[1] {
+		t.Errorf("b 3.0.0 is %v", e)
 	}
-	if !b.Has(versions.Version{2, 0, 0}) || b.Has(versions.Version{1, 0, 0}) {
-		t.Error("Has tells the versions of b wrong")
+	if e := b.Find(versions.Version{2, 0, 0}); e != nil {
+		t.Errorf("b 2.0.0 is %v", e)
 	}
 	if _, ok := b.Entries[0].Need("a"); ok {
 		t.Error("b needs nothing")
@@ -126,9 +129,6 @@ func TestReadTellsWhy(t *testing.T) {
 		{p + "needs a *\nneeds a *\n", errAgain, api.ErrLine, 3},
 		{p + "feature f\nfeature f\n", errAgain, api.ErrLine, 3},
 		{p + "feature f f f f f f f\n", errMany, api.ErrLine, 2},
-		{p + "needs a * +f +f +f +f +f +f\n", errMany, api.ErrLine, 2},
-		{p + "needs a\n", errNeed, api.ErrLine, 2},
-		{p + "needs a * f\n", errAsked, api.ErrLine, 2},
 		{p + "feature\n", errFeature, api.ErrLine, 2},
 		{p + "feature f a//b\n", errItem, api.ErrLine, 2},
 		{p + "needs b *\n", errNoPackage, api.ErrName, 2},

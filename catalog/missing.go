@@ -10,7 +10,7 @@ var (
 )
 
 func (n Need) missing(x *Index, e *Entry) error {
-	if x.Find(n.Package) == nil {
+	if !x.Has(n.Package) {
 		return errNoPackage
 	}
 	return nil

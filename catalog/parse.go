@@ -2,61 +2,30 @@ package catalog
 
 import (
 	"errors"
+	"slices"
 	"strings"
 
 	"lockstep/api"
+	"lockstep/asks"
 	"lockstep/lines"
-	"lockstep/versions"
 )
 
 var (
-	errNeed    = errors.New("this is no need")
-	errAsked   = errors.New("this is no feature that is asked for")
 	errFeature = errors.New("this is no feature")
 	errItem    = errors.New("this is no item")
 )
 
-// parseNeed reads what stands behind the word `needs`.
+// parseNeed reads what stands behind the word `needs`: what a root line may say, but for `optional` behind the demand.
 func parseNeed(words []string) (Need, error) {
-	if len(words) < 2 || !lines.IsName(words[0]) {
-		return Need{}, errNeed
+	optional := len(words) > 2 && words[2] == "optional"
+	if optional {
+		words = slices.Concat(words[:2], words[3:])
 	}
-	demand, err := versions.ParseDemand(words[1])
+	ask, err := asks.Parse(words)
 	if err != nil {
 		return Need{}, err
 	}
-	need := Need{Package: words[0], Demand: demand}
-	words = words[2:]
-	need.Optional, words = cutWord(words, "optional")
-	need.Bare, words = cutWord(words, "bare")
-	need.Features, err = parseAsked(words)
-	if err != nil {
-		return Need{}, err
-	}
-	return need, nil
-}
-
-// cutWord tells whether the first of the words is the one given, and gives those behind it.
-func cutWord(words []string, word string) (bool, []string) {
-	if len(words) > 0 && words[0] == word {
-		return true, words[1:]
-	}
-	return false, words
-}
-
-func parseAsked(words []string) ([]string, error) {
-	if len(words) > api.MaxItems {
-		return nil, errMany
-	}
-	var names []string
-	for _, word := range words {
-		name, plus := strings.CutPrefix(word, "+")
-		if !plus || !lines.IsName(name) {
-			return nil, errAsked
-		}
-		names = append(names, name)
-	}
-	return names, nil
+	return Need{Ask: ask, Optional: optional}, nil
 }
 
 // parseFeature reads what stands behind the word `feature`.

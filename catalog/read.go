@@ -76,7 +76,7 @@ func (r *reader) takePackage(words []string) error {
 	if err != nil {
 		return err
 	}
-	if p.Has(v) {
+	if p.Find(v) != nil {
 		return errAgain
 	}
 	if len(p.Entries) == api.MaxVersions {
@@ -88,8 +88,8 @@ func (r *reader) takePackage(words []string) error {
 }
 
 func (r *reader) findOrAdd(name string) (*Package, error) {
-	if p := r.index.Find(name); p != nil {
-		return p, nil
+	if place := r.index.Place(name); place >= 0 {
+		return r.index.Packages[place], nil
 	}
 	if len(r.index.Packages) == api.MaxPackages {
 		return nil, errMany

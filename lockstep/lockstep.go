@@ -3,8 +3,11 @@ package lockstep
 
 import (
 	"lockstep/api"
+	"lockstep/asks"
 	"lockstep/catalog"
 	"lockstep/fault"
+	"lockstep/follow"
+	"lockstep/locks"
 	"lockstep/versions"
 )
 
@@ -27,7 +30,21 @@ func Load(text string) (*Index, api.Errno, int) {
 func (x *Index) Resolve(request string) (string, api.Errno, int) { return "", api.OK, 0 }
 
 // Check looks whether a lock is a solution (P6).
-func (x *Index) Check(request string, lock string) (api.Errno, int) { return api.OK, 0 }
+func (x *Index) Check(request string, lock string) (api.Errno, int) {
+	roots, err := asks.ReadRequest(request, x.catalog.Has)
+	if err != nil {
+		return fault.Tell(err)
+	}
+	choice, err := locks.Read(x.catalog, lock)
+	if err != nil {
+		return api.ErrWrong, 0
+	}
+	features, ok := follow.Features(x.catalog, choice, roots)
+	if !ok || locks.Write(x.catalog, choice, features) != lock {
+		return api.ErrWrong, 0
+	}
+	return api.OK, 0
+}
 
 // Fits tells whether a version fits what is asked of it (P7).
 func Fits(version string, asked string) (bool, api.Errno) {

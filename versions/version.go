@@ -4,6 +4,7 @@ package versions
 import (
 	"errors"
 	"slices"
+	"strconv"
 	"strings"
 
 	"lockstep/api"
@@ -52,3 +53,8 @@ func parseNumber(digits string) (int, bool) {
 
 // Compare is below 0, if v stands ahead of w, above 0, if behind it, and 0, if it is w.
 func (v Version) Compare(w Version) int { return slices.Compare(v[:], w[:]) }
+
+// String gives the VERSION that Parse reads as v.
+func (v Version) String() string {
+	return strconv.Itoa(v[0]) + "." + strconv.Itoa(v[1]) + "." + strconv.Itoa(v[2])
+}

@@ -10,7 +10,7 @@ func TestParse(t *testing.T) {
 		word string
 		want Version
 	}{{"0.0.0", Version{0, 0, 0}}, {"1.20.300", Version{1, 20, 300}}, {"999.999.999", Version{999, 999, 999}}, {"10.0.100", Version{10, 0, 100}}} {
-		if v, err := Parse(c.word); v != c.want || err != nil {
+		if v, err := Parse(c.word); v != c.want || err != nil || v.String() != c.word {
 			t.Errorf("Parse(%q) = %v, %v", c.word, v, err)
 		}
 	}
