@@ -12,7 +12,7 @@ import (
 // follower gathers what follows. It stops at the first thing that no solution has, for nothing that follows is ever taken back.
 type follower struct {
 	index  *catalog.Index
-	choice catalog.Choice
+	choice catalog.Choice // may be of the first packages only: the others are open
 	known  map[fact]struct{}
 	todo   todo
 	wrong  bool
@@ -20,6 +20,20 @@ type follower struct {
 
 // Features tells of each package, in the order of the index, which features are on, rising; and whether the choice is a solution. If it is none, there are no features.
 func Features(x *catalog.Index, choice catalog.Choice, roots []asks.Ask) ([][]string, bool) {
+	f := gather(x, choice, roots)
+	if f.wrong || f.choosesUnwanted() {
+		return nil, false
+	}
+	return f.features(), true
+}
+
+// Possible tells of a choice of the first packages only whether nothing is wrong with it yet. If something is, no choice that begins so is a solution.
+// A package that is chosen and not wanted is nothing wrong: one behind may want it.
+func Possible(x *catalog.Index, choice catalog.Choice, roots []asks.Ask) bool {
+	return !gather(x, choice, roots).wrong
+}
+
+func gather(x *catalog.Index, choice catalog.Choice, roots []asks.Ask) *follower {
 	f := &follower{index: x, choice: choice, known: map[fact]struct{}{}}
 	for _, root := range roots {
 		f.ask(root)
@@ -27,11 +41,11 @@ func Features(x *catalog.Index, choice catalog.Choice, roots []asks.Ask) ([][]st
 	for !f.wrong && f.todo.Len() > 0 {
 		f.follow(heap.Pop(&f.todo).(fact))
 	}
-	if f.wrong || f.choosesUnwanted() {
-		return nil, false
-	}
-	return f.features(), true
+	return f
 }
+
+// isOpen tells whether nothing is decided of the package, so that nothing follows from it and nothing is wrong with it.
+func (f *follower) isOpen(place int) bool { return place >= len(f.choice) }
 
 func (f *follower) knows(n fact) bool {
 	_, ok := f.known[n]
@@ -49,6 +63,9 @@ func (f *follower) add(n fact) {
 // ask adds what a root line, or a `needs` that is met, gives.
 func (f *follower) ask(a asks.Ask) {
 	place := f.index.Place(a.Package)
+	if f.isOpen(place) {
+		return
+	}
 	entry := f.choice[place]
 	if entry == nil || !a.Demand.Fits(entry.Version) {
 		f.wrong = true
@@ -74,6 +91,9 @@ func (f *follower) has(place int, name string) bool {
 }
 
 func (f *follower) turnOn(place int, name string) {
+	if f.isOpen(place) {
+		return
+	}
 	if !f.has(place, name) {
 		f.wrong = true
 		return

@@ -96,3 +96,39 @@ func TestWantedAndNotChosen(t *testing.T) {
 		}
 	}
 }
+
+// Of the first package alone: what is wrong already, and what the packages behind may still bring.
+func TestPossible(t *testing.T) {
+	for _, c := range []struct {
+		why, index, request string
+		chosen, ok          bool
+	}{
+		{"not chosen, and nothing is known to want it", "package a 1.0.0\npackage b 1.0.0\nneeds a *\n", "root b *\n", false, true},
+		{"not chosen, but a root wants it", "package a 1.0.0\npackage b 1.0.0\n", "root b *\nroot a *\n", false, false},
+		{"chosen, and one behind may want it", "package a 1.0.0\npackage b 1.0.0\n", "root b *\n", true, true},
+		{"does not fit a root", "package a 1.0.0\npackage b 1.0.0\n", "root b *\nroot a =2.0.0\n", true, false},
+		{"has not the feature of a root", "package a 1.0.0\npackage b 1.0.0\n", "root a * +f\n", true, false},
+		{"does not fit its own need", "package a 1.0.0\nneeds a =2.0.0\npackage b 1.0.0\n", "root a *\n", true, false},
+		{"does not fit its own need, but is not known to be wanted", "package a 1.0.0\nneeds a =2.0.0\npackage b 1.0.0\n", "root b *\n", true, true},
+		{"an open one fits no root", "package a 1.0.0\npackage b 1.0.0\n", "root a *\nroot b =2.0.0 +f\n", true, true},
+		{"an open one fits no need", "package a 1.0.0\nneeds b =2.0.0 +f\npackage b 1.0.0\n", "root a *\n", true, true},
+		{"items of an open one", "package a 1.0.0\nneeds b * optional\nfeature f b/g\nfeature g b?/g\nfeature h dep:b\npackage b 1.0.0\n", "root a * +f +g +h\n", true, true},
+		{"an own item behind an open one", "package a 1.0.0\nneeds a * optional\nneeds b * optional\nfeature f b/g a?/q\nfeature z dep:a\npackage b 1.0.0\n", "root a * +f +z\n", true, false},
+	} {
+		x, roots := read(t, c.index, c.request)
+		choice := catalog.Choice{nil}
+		if c.chosen {
+			choice[0] = x.Packages[0].Entries[0]
+		}
+		if ok := Possible(x, choice, roots); ok != c.ok {
+			t.Errorf("%s: %v", c.why, ok)
+		}
+	}
+}
+
+func TestNothingDecidedIsPossible(t *testing.T) {
+	x, roots := read(t, "package a 1.0.0\nneeds a =2.0.0\n", "root a =3.0.0 +f\n")
+	if !Possible(x, catalog.Choice{}, roots) {
+		t.Error("nothing is decided, and something is wrong")
+	}
+}

@@ -306,6 +306,20 @@ func requestByPatterns(text string, packages []string) (api.Errno, int) {
 	return api.OK, 0
 }
 
+// smallChanges gives the beginnings and ends of a text, and what becomes of it by one byte more or another one.
+func smallChanges(text string, agree func(changed string)) {
+	for k := range len(text) + 1 {
+		agree(text[:k])
+		agree(text[k:])
+		for _, c := range []byte("abgxz0129.*=>~^+:/?- \n\r\tA\x00\xff") {
+			agree(text[:k] + string([]byte{c}) + text[k:])
+			if k < len(text) {
+				agree(text[:k] + string([]byte{c}) + text[k+1:])
+			}
+		}
+	}
+}
+
 func TestP6SmallChangesOfARequest(t *testing.T) {
 	x, _, _ := Load(example1)
 	second := readByFields(example1)
@@ -323,16 +337,7 @@ func TestP6SmallChangesOfARequest(t *testing.T) {
 		seen[want]++
 	}
 	for _, text := range []string{request, "root a * bare\nroot b ^1.2.0 +x\n", strings.Repeat("root a *\n", 5)} {
-		for k := range len(text) + 1 {
-			agreeOnRequest(text[:k])
-			agreeOnRequest(text[k:])
-			for _, c := range []byte("abgxz0129.*=>~^+:/?- \n\r\tA\x00\xff") {
-				agreeOnRequest(text[:k] + string([]byte{c}) + text[k:])
-				if k < len(text) {
-					agreeOnRequest(text[:k] + string([]byte{c}) + text[k+1:])
-				}
-			}
-		}
+		smallChanges(text, agreeOnRequest)
 	}
 	for _, e := range []api.Errno{api.OK, api.ErrLine, api.ErrName, api.ErrWrong} {
 		if seen[e] < 5 {

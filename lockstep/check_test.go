@@ -14,7 +14,7 @@ type checkCase struct {
 	at      int
 }
 
-// runChecks asks twice, for the same texts are answered the same (P2).
+// runChecks asks twice, for the same texts are answered the same (P2), and holds what Resolve tells against it.
 func runChecks(t *testing.T, index string, cases []checkCase) {
 	t.Helper()
 	x, e, _ := Load(index)
@@ -27,6 +27,26 @@ func runChecks(t *testing.T, index string, cases []checkCase) {
 				t.Errorf("Check(%.120q, %.120q): %d, %d, want %d, %d", c.request, c.lock, e, at, c.e, c.at)
 			}
 		}
+		agreeWithResolve(t, x, c)
+	}
+}
+
+// agreeWithResolve: both tell the same of a request that is wrong; and where a lock is right, there is a solution.
+func agreeWithResolve(t *testing.T, x *Index, c checkCase) {
+	t.Helper()
+	lock, e, at := x.Resolve(c.request)
+	ok := e == c.e && at == c.at
+	if c.e == api.ErrWrong {
+		ok = (e == api.OK || e == api.ErrNone) && at == 0
+	}
+	if !ok || e != api.OK && lock != "" {
+		t.Errorf("Resolve(%.120q): %q, %d, %d, but Check(%.120q): %d, %d", c.request, lock, e, at, c.lock, c.e, c.at)
+	}
+	if e != api.OK {
+		return
+	}
+	if e, at := x.Check(c.request, lock); e != api.OK || at != 0 {
+		t.Errorf("Check(%.120q, %q): %d, %d, but Resolve tells it", c.request, lock, e, at)
 	}
 }
 

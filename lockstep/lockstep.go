@@ -4,6 +4,7 @@ package lockstep
 import (
 	"lockstep/api"
 	"lockstep/asks"
+	"lockstep/best"
 	"lockstep/catalog"
 	"lockstep/fault"
 	"lockstep/follow"
@@ -27,7 +28,18 @@ func Load(text string) (*Index, api.Errno, int) {
 }
 
 // Resolve tells the best solution (P4, P5).
-func (x *Index) Resolve(request string) (string, api.Errno, int) { return "", api.OK, 0 }
+func (x *Index) Resolve(request string) (string, api.Errno, int) {
+	roots, err := asks.ReadRequest(request, x.catalog.Has)
+	if err != nil {
+		number, line := fault.Tell(err)
+		return "", number, line
+	}
+	choice, features, ok := best.Solution(x.catalog, roots)
+	if !ok {
+		return "", api.ErrNone, 0
+	}
+	return locks.Write(x.catalog, choice, features), api.OK, 0
+}
 
 // Check looks whether a lock is a solution (P6).
 func (x *Index) Check(request string, lock string) (api.Errno, int) {
